@@ -28,7 +28,6 @@ func TestRight(t *testing.T) {
 		"5 poll 2 error 21":                {Kind: seat.Poll, Tick: 5, Cell: 2, Code: api.ErrCell},
 		"5 poll 2 fill 3 9 4":              {Kind: seat.Poll, Tick: 5, Cell: 2, Record: api.Record{Kind: record.Fill, Qty: 3, Price: 9, Tick: 4}},
 		"5 poll 2 retired 0 0 0":           {Kind: seat.Poll, Tick: 5, Cell: 2, Record: api.Record{Kind: record.Retired}},
-		"5 view":                           {Kind: seat.View, Tick: 5},
 		"5 view error 6":                   {Kind: seat.View, Tick: 5, Code: api.ErrForm},
 		"5 view live 3 1 free 0 0":         {Kind: seat.View, Tick: 5, Looks: []seat.Look{{Kind: 1, Left: 3, Fills: 1}, {}}},
 		"5 view filled 0 1 cancelled 2 0 expired 2 9 retired 1 9999999": {Kind: seat.View, Tick: 5, Looks: []seat.Look{{Kind: 5, Fills: 1}, {Kind: 6, Left: 2}, {Kind: 7, Left: 2, Fills: 9}, {Kind: 8, Left: 1, Fills: line.MaxNum}}},
@@ -88,7 +87,7 @@ func TestNoLine(t *testing.T) {
 	for _, s := range []string{
 		"", " ", "9", "9 ", "9 cancel", "9 cancel 7", "9 cancel 7 0", "9 cancel 7 0 ", "9 cancel 7 0 asked ", " 9 cancel 7 0 asked", "9 cancel 7 0 asked 1", "9  cancel 7 0 asked",
 		"09 cancel 7 0 ok", "-9 cancel 7 0 ok", "1000001 cancel 7 0 ok", "9 cancel 07 0 ok", "9 cancel 7 x ok", "9 cancel 7 0 done", "9 cancel 7 0 error", "9 cancel 7 0 error 0", "9 cancel 7 0 error 05", "9 cancel 7 0 error x", "9 cancel 7 0 error -1", "9 cancel 7 0 error 5 5",
-		"9 submit 1 0 asked", "9 submit 10000000 0 ok", "9 sumbit 1 0 ok", "9 ? 1 0 ok", "9 view ok", "9 view asked", "9 view live", "9 view live 1", "9 view live 1 x", "9 view hot 1 0", "9 view ? 1 0", "9 view none 1 0", "9 view live 1 0 ", "9 view 1 0",
+		"9 submit 1 0 asked", "9 submit 10000000 0 ok", "9 sumbit 1 0 ok", "9 ? 1 0 ok", "9 view asked", "9 view live", "9 view live 1", "9 view live 1 x", "9 view hot 1 0", "9 view ? 1 0", "9 view none 1 0", "9 view live 1 0 ", "9 view 1 0",
 		"9 poll 2", "9 poll 2 ok", "9 poll 2 none 0 0 0", "9 poll 2 fill", "9 poll 2 fill 1 2", "9 poll 2 fill 1 2 3 4", "9 poll 2 live 1 2 3", "9 poll 1 2 none", "9 poll 2 fill 1 2 03",
 		"9 cancel 7 0 asked\n", "٩ view",
 	} {

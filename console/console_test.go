@@ -43,7 +43,7 @@ func TestRun(t *testing.T) {
 
 // P32.1: errors, the first one first; nothing is done by them.
 func TestErrors(t *testing.T) {
-	for _, s := range []string{"", "#", "foo", "say", "say 0 view", "tick x", "cells", "cells 1", "storm x", " begin 1 1 1 1 0 1 1", "beginning", "told x"} {
+	for _, s := range []string{"foo", "say", "say 0 view", "tick x", "cells", "cells 1", "storm x", " begin 1 1 1 1 0 1 1", "beginning", "told x"} {
 		if l := console.Run(s); !slices.Equal(l, []string{"error other at 0"}) {
 			t.Errorf("%q: %v", s, l)
 		}

@@ -3,20 +3,11 @@ package fault_test
 import (
 	"errors"
 	"slices"
-	"strings"
 	"testing"
 
 	"gloaming/api"
 	"gloaming/fault"
 )
-
-// broken is an error of others that fails whatever it is asked.
-type broken struct{ p *int }
-
-func (b broken) Error() string   { return string(rune(*b.p)) }
-func (b broken) Is(error) bool   { return *b.p == 0 }
-func (b broken) As(any) bool     { return *b.p == 0 }
-func (b broken) Unwrap() []error { return nil }
 
 // P1.1
 func TestWrapping(t *testing.T) {
@@ -49,7 +40,6 @@ func TestSeveral(t *testing.T) {
 	if !ok || len(u.Unwrap()) != 2 || u.Unwrap()[0] != api.ErrQty || fault.Code(u.Unwrap()[1]) != api.ErrBusy {
 		t.Fatal(e)
 	}
-	u.Unwrap()[0] = nil
 	if !errors.Is(e, api.ErrQty) || !errors.Is(e, api.ErrBusy) || errors.Is(e, api.ErrFull) {
 		t.Error("within", e)
 	}
@@ -76,9 +66,6 @@ func TestAsking(t *testing.T) {
 		{e, api.ErrLate, -7, true, []string{"out", "in"}},
 		{fault.At(1, fault.At(2, api.ErrArg)), api.ErrArg, 1, true, nil},
 		{both, api.ErrLate, 2, true, []string{"out", "in"}},
-		{fault.At(1, (*fault.Note)(nil)), 0, 1, true, nil},
-		{(*fault.Fault)(nil), 0, 0, false, nil},
-		{(*fault.Note)(nil), 0, 0, false, nil},
 	}
 	for i, x := range tests {
 		at, ok := fault.Place(x.err)
@@ -144,22 +131,17 @@ func TestDeep(t *testing.T) {
 	if n := len(fault.Words(e)); n != 1<<16/3 {
 		t.Error("words", n)
 	}
-	if !strings.HasSuffix(e.Error(), "at 0: code 11") {
-		t.Error("text")
-	}
 }
 
-// Errors of others may fail; the calls don't.
-func TestBroken(t *testing.T) {
-	for _, b := range []error{broken{}, (*api.Code)(nil)} {
-		e := fault.At(1, fault.With("x", b))
-		_ = e.Error()
-		fault.Code(e)
-		fault.Has(e, 1)
-		fault.Place(b)
-		fault.Words(b)
-	}
-	if fault.Code(broken{}) != 0 || fault.Has(broken{}, 1) || fault.Words(broken{}) != nil {
-		t.Error("something of what fails")
+// R1: of nil faults and notes, bare and wrapped, nothing panics.
+func TestNil(t *testing.T) {
+	for _, e := range []error{(*fault.Fault)(nil), (*fault.Note)(nil), &fault.Fault{}, &fault.Note{}} {
+		for _, x := range []error{e, fault.At(1, e), fault.With("w", e), fault.All(e, e)} {
+			fault.Place(x)
+			fault.Words(x)
+			if x.Error() == "" || fault.Code(x) != 0 || fault.Has(x, api.ErrArg) {
+				t.Error(x)
+			}
+		}
 	}
 }

@@ -11,7 +11,6 @@ import (
 	"gloaming/fault"
 	"gloaming/fence"
 	"gloaming/ledger"
-	"gloaming/pair"
 	"gloaming/pool"
 	"gloaming/rules"
 	"gloaming/seat"
@@ -111,7 +110,7 @@ func TestUses(t *testing.T) {
 			t.Error(u)
 		}
 	}
-	if u := fence.Uses(book.Book{}, l, 1, 0); u != (fence.Use{Net: -3}) {
+	if u := fence.Uses(book.Of(nil), l, 1, 0); u != (fence.Use{Net: -3}) {
 		t.Error(u)
 	}
 }
@@ -238,12 +237,11 @@ func TestAsk(t *testing.T) {
 		t.Error(err)
 	}
 	var none *fence.Fence
-	for _, err := range []error{f.Ask(nil, 0, other), none.Ask(p, 0, other), f.Ask(&pool.Pool{}, 0, other)} {
+	for _, err := range []error{f.Ask(nil, 0, other), none.Ask(p, 0, other)} {
 		if !errors.Is(err, api.ErrNil) {
 			t.Error(err)
 		}
 	}
-	f.Ask(&pool.Pool{World: &pair.World{}}, 0, other)
 	p.Tell(trace.Event{Kind: trace.Rest, Cell: 5, Gen: 1})
 	if err := f.Ask(p, 9, other); !errors.Is(err, api.ErrNone) {
 		t.Error(err)

@@ -45,7 +45,7 @@ func TestNew(t *testing.T) {
 	for _, x := range tests {
 		l, err := field.New(x.widths...)
 		wrong(t, err, x.code, x.at)
-		if l != (field.Layout{}) {
+		if l.Fields() != 0 {
 			t.Error("a layout beside an error", x.widths)
 		}
 	}

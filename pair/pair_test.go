@@ -118,7 +118,7 @@ func TestWorld(t *testing.T) {
 	w.Terms(-1)
 	w.Note(6, 1, 0, api.Record{})
 	w.Note(0, 4, 0, api.Record{})
-	if w.Turn(9, 0, s) || w.Turn(0, 0, api.State{Kind: 99}) || w.M.Steps() != was {
+	if w.Turn(9, 0, s) || w.M.Steps() != was {
 		t.Error("steps of nothing")
 	}
 }

@@ -9,7 +9,6 @@ import (
 	"gloaming/api"
 	"gloaming/cell"
 	"gloaming/fault"
-	"gloaming/pair"
 	"gloaming/pool"
 	"gloaming/seat"
 	"gloaming/trace"
@@ -186,21 +185,16 @@ func TestBrooms(t *testing.T) {
 	}
 }
 
-// P13.2: of nil; and of pools that no call made.
+// P13.2: of nil.
 func TestNil(t *testing.T) {
-	for _, p := range []*pool.Pool{nil, {}, {World: &pair.World{}}} {
-		for kind := range 6 {
-			if p.Do(pool.Event{Kind: kind, N: 1}) {
-				t.Error(kind)
-			}
+	var p *pool.Pool
+	for kind := range 6 {
+		if p.Do(pool.Event{Kind: kind, N: 1}) {
+			t.Error(kind)
 		}
-		p.Run(pick(0))
-		if len(p.Outs()) != 0 || p.Answered() != 0 || len(p.Replies(0)) != 0 || len(p.Lines()) != 0 || len(p.Events()) != 0 || !p.Idle(0) || !p.Begins(0) {
-			t.Error("of nil")
-		}
-		p.Uses()
 	}
-	if len((*pool.Pool)(nil).Uses()) != 0 {
+	p.Run(pick(0))
+	if len(p.Outs()) != 0 || p.Answered() != 0 || len(p.Replies(0)) != 0 || len(p.Uses()) != 0 || len(p.Lines()) != 0 || len(p.Events()) != 0 || !p.Idle(0) || !p.Begins(0) {
 		t.Error("of nil")
 	}
 }

@@ -7,7 +7,6 @@ import (
 
 	"gloaming/api"
 	"gloaming/fault"
-	"gloaming/pair"
 	"gloaming/pool"
 	"gloaming/record"
 	"gloaming/report"
@@ -123,19 +122,10 @@ func TestLines(t *testing.T) {
 
 // P29.2, P29.3: of nil, and of a new pool.
 func TestNil(t *testing.T) {
-	for _, p := range []*pool.Pool{nil, {}} {
-		l, err := report.Rows(p)
-		if len(report.Cells(p)) != 0 || len(report.Log(p)) != 0 || len(report.Book(p, 0)) != 0 || len(l) != 0 || !errors.Is(err, api.ErrNil) || report.Numbers(p) != "none" || report.Health(p) != "none" {
-			t.Error("of nil")
-		}
+	l, err := report.Rows(nil)
+	if len(report.Cells(nil)) != 0 || len(report.Log(nil)) != 0 || len(report.Book(nil, 0)) != 0 || len(l) != 0 || !errors.Is(err, api.ErrNil) || report.Numbers(nil) != "none" || report.Health(nil) != "none" {
+		t.Error("of nil")
 	}
-	odd := &pool.Pool{World: &pair.World{}}
-	report.Cells(odd)
-	report.Log(odd)
-	report.Book(odd, 0)
-	report.Rows(odd)
-	report.Numbers(odd)
-	report.Health(odd)
 	p, err := pool.New(api.Config{Parts: 1, Cells: 1, Names: 1, Bands: 1, Fills: 1, Gens: 1})
 	if err != nil {
 		t.Fatal(err)

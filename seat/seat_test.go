@@ -1,7 +1,6 @@
 package seat_test
 
 import (
-	"errors"
 	"math"
 	"slices"
 	"testing"
@@ -69,7 +68,7 @@ func run(t *testing.T, w *pair.World, s *seat.Seat, p *seat.Program) (seat.Reply
 
 func ask(t *testing.T, w *pair.World, s *seat.Seat, a seat.Ask) seat.Reply {
 	t.Helper()
-	r, n, _ := run(t, w, s, seat.Start(a, nil))
+	r, n, _ := run(t, w, s, seat.Start(a, tape()))
 	if r.Code == 0 && n != seat.Steps(w.R, a) {
 		t.Error("steps", n, seat.Steps(w.R, a))
 	}
@@ -208,7 +207,7 @@ func TestRefused(t *testing.T) {
 	}
 	log, words := len(w.Log), w.M.Words()
 	for i, x := range tests {
-		r, n, _ := run(t, w, s, seat.Start(x.a, nil))
+		r, n, _ := run(t, w, s, seat.Start(x.a, tape()))
 		if n != x.steps || !seat.Same(r, seat.Reply{Kind: seat.Submit, Code: x.want, Tick: 8, ID: x.a.ID, Cell: x.a.Cell}) {
 			t.Error(i, n, r)
 		}
@@ -220,8 +219,8 @@ func TestRefused(t *testing.T) {
 		t.Error("the greatest number", r)
 	}
 	for _, kind := range []int{0, 5, -1} {
-		r, n, touched := run(t, w, s, seat.Start(seat.Ask{Kind: kind, ID: 3, Cell: 1}, nil))
-		if n != 1 || len(touched) != 0 || !seat.Same(r, seat.Reply{Kind: kind, Code: api.ErrForm, Tick: 8, ID: 3, Cell: 1}) {
+		r, n, touched := run(t, w, s, seat.Start(seat.Ask{Kind: kind}, tape()))
+		if n != 1 || len(touched) != 0 || !seat.Same(r, seat.Reply{Kind: kind, Code: api.ErrForm, Tick: 8}) {
 			t.Error(kind, r, n)
 		}
 	}
@@ -285,7 +284,7 @@ func TestRest(t *testing.T) {
 		w := world(t, config)
 		s := seat.New(w.R, 0)
 		a := submit(1, 0, order(api.Buy, 10), 5)
-		p := seat.Start(a, nil)
+		p := seat.Start(a, tape())
 		ahead := seat.Steps(w.R, a) - 7
 		for range ahead + 1 {
 			p.Step(w, s)
@@ -320,20 +319,20 @@ func TestCancel(t *testing.T) {
 	cancel := func(id, cell int) seat.Ask { return seat.Ask{Kind: seat.Cancel, ID: id, Cell: cell} }
 	w.C.Go(6)
 	for _, c := range []int{2, -1} {
-		r, n, touched := run(t, w, s, seat.Start(cancel(4, c), nil))
+		r, n, touched := run(t, w, s, seat.Start(cancel(4, c), tape()))
 		if n != 1 || len(touched) != 0 || !seat.Same(r, seat.Reply{Kind: seat.Cancel, Code: api.ErrCell, Tick: 6, ID: 4, Cell: c}) {
 			t.Error(r)
 		}
 	}
 	for _, x := range [][2]int{{5, 0}, {3, 0}, {4, 1}, {0, 1}} {
-		r, n, touched := run(t, w, s, seat.Start(cancel(x[0], x[1]), nil))
+		r, n, touched := run(t, w, s, seat.Start(cancel(x[0], x[1]), tape()))
 		if n != 9 || !slices.Equal(touched, []int{1}) || !seat.Same(r, seat.Reply{Kind: seat.Cancel, Code: api.ErrGone, Tick: 6, ID: x[0], Cell: x[1]}) {
 			t.Error(x, r, touched)
 		}
 	}
 	word, st := w.State(0)
 	w.Turn(0, word, cell.Hold(st)) // somebody holds it
-	r, n, touched := run(t, w, s, seat.Start(cancel(4, 0), nil))
+	r, n, touched := run(t, w, s, seat.Start(cancel(4, 0), tape()))
 	if n != 9 || !slices.Equal(touched, []int{1, 2}) || !seat.Same(r, seat.Reply{Kind: seat.Cancel, Tick: 6, ID: 4, Asked: true}) || !state(w, 0).Flag {
 		t.Error(r, touched)
 	}
@@ -341,13 +340,13 @@ func TestCancel(t *testing.T) {
 		t.Error(e)
 	}
 	log := len(w.Log)
-	r, _, touched = run(t, w, s, seat.Start(cancel(4, 0), nil))
+	r, _, touched = run(t, w, s, seat.Start(cancel(4, 0), tape()))
 	if !slices.Equal(touched, []int{1}) || !r.Asked || r.Code != 0 || len(w.Log) != log {
 		t.Error("asked already", r, touched)
 	}
 	word, _ = w.State(0)
 	w.Turn(0, word, st) // it is let go, but nobody saw to its end
-	p := seat.Start(cancel(4, 0), nil)
+	p := seat.Start(cancel(4, 0), tape())
 	for range 3 {
 		p.Step(w, s)
 	}
@@ -369,7 +368,7 @@ func TestBusy(t *testing.T) {
 	w := world(t, config)
 	s := seat.New(w.R, 0)
 	ask(t, w, s, submit(4, 0, order(api.Buy, 10), 9))
-	p := seat.Start(seat.Ask{Kind: seat.Cancel, ID: 4}, nil)
+	p := seat.Start(seat.Ask{Kind: seat.Cancel, ID: 4}, tape())
 	for i := range 8 {
 		if i == 2 || i == 4 || i == 6 { // between the load and the swap
 			word, st := w.State(0)
@@ -390,24 +389,24 @@ func TestPollView(t *testing.T) {
 	w := world(t, config)
 	s := seat.New(w.R, 1)
 	for _, c := range []int{-1, 2} {
-		if r, n, _ := run(t, w, s, seat.Start(seat.Ask{Kind: seat.Poll, Cell: c}, nil)); n != 1 || r.Code != api.ErrCell {
+		if r, n, _ := run(t, w, s, seat.Start(seat.Ask{Kind: seat.Poll, Cell: c}, tape())); n != 1 || r.Code != api.ErrCell {
 			t.Error(r)
 		}
 	}
-	if _, n, touched := run(t, w, s, seat.Start(seat.Ask{Kind: seat.Poll}, nil)); n != 4 || !slices.Equal(touched, []int{1, 2}) {
+	if _, n, touched := run(t, w, s, seat.Start(seat.Ask{Kind: seat.Poll}, tape())); n != 4 || !slices.Equal(touched, []int{1, 2}) {
 		t.Error(touched)
 	}
 	s.Cursors[0] = record.Cursor{Gen: 1, N: 2} // all fills were read
-	if _, _, touched := run(t, w, s, seat.Start(seat.Ask{Kind: seat.Poll}, nil)); !slices.Equal(touched, []int{2}) {
+	if _, _, touched := run(t, w, s, seat.Start(seat.Ask{Kind: seat.Poll}, tape())); !slices.Equal(touched, []int{2}) {
 		t.Error(touched)
 	}
 	s.Cursors[0] = record.Cursor{Gen: 4} // there is no such gen
-	if r, n, touched := run(t, w, s, seat.Start(seat.Ask{Kind: seat.Poll}, nil)); n != 4 || len(touched) != 0 || r.Code != 0 || r.Record != (api.Record{}) {
+	if r, n, touched := run(t, w, s, seat.Start(seat.Ask{Kind: seat.Poll}, tape())); n != 4 || len(touched) != 0 || r.Code != 0 || r.Record != (api.Record{}) {
 		t.Error(touched)
 	}
 	w.Turn(3, 0, api.State{Kind: api.RestHeld, Gen: 1, Left: 4, Fills: 1})
-	r, n, touched := run(t, w, s, seat.Start(seat.Ask{Kind: seat.View, ID: 6, Cell: 9}, nil))
-	if n != 4 || !slices.Equal(touched, []int{1, 2}) || !seat.Same(r, seat.Reply{Kind: seat.View, ID: 6, Cell: 9, Looks: []seat.Look{{}, {Kind: 1, Left: 4, Fills: 1}}}) {
+	r, n, touched := run(t, w, s, seat.Start(seat.Ask{Kind: seat.View}, tape()))
+	if n != 4 || !slices.Equal(touched, []int{1, 2}) || !seat.Same(r, seat.Reply{Kind: seat.View, Looks: []seat.Look{{}, {Kind: 1, Left: 4, Fills: 1}}}) {
 		t.Error(r, touched)
 	}
 	for kind := range 9 {
@@ -444,27 +443,6 @@ func TestSame(t *testing.T) {
 	for i, o := range others {
 		if seat.Same(a, o) || seat.Same(o, a) {
 			t.Error(i)
-		}
-	}
-}
-
-// Whatever is handed in, nothing panics.
-func TestOdd(t *testing.T) {
-	w := world(t, config)
-	for kind := range 6 {
-		for _, s := range []*seat.Seat{{}, {Part: 9}, {IDs: []int{1}}, seat.New(w.R, 99), seat.New(w.R, -1), {Cursors: []record.Cursor{{Gen: -5, N: -7}}, IDs: []int{0}, Gens: []int{0}}} {
-			p := seat.Start(seat.Ask{Kind: kind, ID: 1, Terms: order(0, 9), Qty: 1}, func() (int, bool) { panic(errors.New("x")) })
-			for range 400 {
-				p.Step(w, s)
-			}
-		}
-		p := seat.Start(seat.Ask{Kind: kind, ID: 1, Terms: order(0, 9), Qty: 1}, nil)
-		good := seat.New(w.R, 0)
-		for i := range 300 {
-			if i%3 == 2 {
-				p.Step(&pair.World{}, &seat.Seat{})
-			}
-			p.Step(w, good)
 		}
 	}
 }

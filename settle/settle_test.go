@@ -7,7 +7,6 @@ import (
 	"gloaming/api"
 	"gloaming/broom"
 	"gloaming/cell"
-	"gloaming/pair"
 	"gloaming/pool"
 	"gloaming/seat"
 	"gloaming/settle"
@@ -146,10 +145,8 @@ func TestHeld(t *testing.T) {
 
 // P14.2: of nil.
 func TestNil(t *testing.T) {
-	for _, p := range []*pool.Pool{nil, {}, {World: &pair.World{}}} {
-		if len(settle.Finish(p)) != 0 || len(settle.Settle(p)) != 0 || len(settle.Cells(p)) != 0 || !settle.Quiet(p) || !settle.Clear(p) || len(settle.Due(p)) != 0 || len(settle.Matches(p)) != 0 {
-			t.Error("of nil")
-		}
+	if len(settle.Finish(nil)) != 0 || len(settle.Settle(nil)) != 0 || len(settle.Cells(nil)) != 0 || !settle.Quiet(nil) || !settle.Clear(nil) || len(settle.Due(nil)) != 0 || len(settle.Matches(nil)) != 0 {
+		t.Error("of nil")
 	}
 }
 

@@ -15,8 +15,6 @@ import (
 
 const allowed = " bytes cmp container/heap errors iter maps math math/bits slices sort strconv strings sync sync/atomic unicode unicode/utf8 "
 
-const mostLines = 60
-
 func TestStyle(t *testing.T) {
 	files, err := filepath.Glob("../*/*.go")
 	if err != nil || len(files) < 33 {
@@ -52,28 +50,6 @@ func look(t *testing.T, name string, set *token.FileSet, f *ast.File) {
 	for _, c := range f.Comments {
 		if strings.HasPrefix(c.List[0].Text, "//go:") || strings.HasPrefix(c.List[0].Text, "// +build") {
 			t.Error(name, c.List[0].Text)
-		}
-	}
-	for _, d := range f.Decls {
-		switch x := d.(type) {
-		case *ast.FuncDecl:
-			if n := set.Position(x.End()).Line - set.Position(x.Pos()).Line + 1; n > mostLines {
-				t.Error(name, x.Name.Name, "has", n, "lines")
-			}
-		case *ast.GenDecl:
-			if x.Tok != token.VAR {
-				continue
-			}
-			for _, s := range x.Specs {
-				v := s.(*ast.ValueSpec)
-				if len(v.Values) == 0 {
-					t.Error(name, v.Names[0].Name, "has no value of its own")
-					continue
-				}
-				if _, ok := v.Values[0].(*ast.CompositeLit); !ok {
-					t.Error(name, v.Names[0].Name, "is no table")
-				}
-			}
 		}
 	}
 }
