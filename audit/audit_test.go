@@ -37,7 +37,7 @@ func end(kind, at, of, left, fills, tick int) audit.Entry {
 func TestJournal(t *testing.T) {
 	p := made(t)
 	put := func(e audit.Entry) { p.Note(e.At, e.Of, e.Num, e.Record) }
-	a, b, c := fill(1, 1, 0, 4, 1, 3, 9, 5), end(record.Retired, 1, 1, 2, 1, 5), fill(1, 3, 1, 4, 2, 1, 1, 2)
+	a, b, c := fill(1, 1, 0, 4, 1, 3, 9, 5), end(record.Retired, 1, 1, 2, 1, 5), fill(1, 9, 1, 4, 2, 1, 1, 2)
 	d := fill(4, 1, 0, 1, 1, 3, 9, 5)
 	for _, e := range []audit.Entry{c, d, b, a} {
 		put(e)

@@ -167,6 +167,7 @@ func TestCross(t *testing.T) {
 		{[]book.Order{order(0, 0, api.Buy, 9, 5), order(1, 0, api.Buy, 7, 3), order(2, 0, api.Sell, 8, 4), order(3, 0, api.Sell, 6, 4)}, 8, 5},
 		{[]book.Order{order(0, 0, api.Buy, 9, 5), order(1, 0, api.Sell, 7, 3), order(2, 0, 2, 1, 50), order(3, 0, 2, 8, 50)}, 7, 3},
 		{[]book.Order{order(0, 0, api.Buy, 9, 0), order(1, 0, api.Sell, 7, 3)}, 0, 0},
+		{[]book.Order{order(0, 0, api.Buy, 9, 5), order(1, 0, api.Sell, 9, 3)}, 9, 3},
 	}
 	for i, x := range tests {
 		if p, q := book.New(made(t), x.l...).Cross(0); p != x.price || q != x.qty {

@@ -56,7 +56,7 @@ func TestRows(t *testing.T) {
 		depth, runs int
 		cut         bool
 	}{
-		{[]int{0, 1}, 0, 1, false}, {[]int{0, 1}, -5, 1, false}, {nil, 0, 1, false}, {nil, 3, 0, false}, {[]int{7}, 99, 1, false},
+		{[]int{0, 1}, 0, 1, false}, {[]int{0, 1}, -5, 1, false}, {nil, 0, 1, false}, {nil, 1, 0, false}, {nil, 3, 0, false}, {[]int{7}, 99, 1, false},
 		{[]int{0, 1}, 12, 4096, false}, {[]int{0, 1}, 1 << 40, 4096, false}, {[]int{0, 0, 3}, 2, 9, false}, {[]int{0, 1, 2, 3}, 6, 4096, false}, {[]int{0, 1, 2, 3, -1}, 6, 4096, true},
 	}
 	for i, x := range tests {

@@ -135,6 +135,7 @@ func TestMay(t *testing.T) {
 		{buy, fence.Use{Open: 1, Qty: 6, Worth: 60, Net: 3}, 14, "net"},
 		{buy, fence.Use{Open: 1, Qty: 6, Worth: 60, Net: 2}, 14, "price"},
 		{buy, fence.Use{}, 6, "price"},
+		{buy, fence.Use{}, 1, "price"},
 		{buy, fence.Use{}, 7, ""},
 		{buy, fence.Use{}, -1, ""},
 		{buy, fence.Use{Buys: 2}, 0, ""},

@@ -96,6 +96,9 @@ func TestPrices(t *testing.T) {
 	if b, ok := l.Bars(0); !ok || b != [4]int{15, 15, 11, 14} {
 		t.Error(b, ok)
 	}
+	if m, ok := l.Mean(0); !ok || m != 40/3 || l.Row(0, 0) != (ledger.Row{Bought: 3, Paid: 40, Trades: 3}) || l.Part(1) != (ledger.Row{Sold: 2, Got: 26, Trades: 2}) {
+		t.Error(m, ok, l.Row(0, 0))
+	}
 	for _, name := range []int{1, 2, -1, 3} {
 		b, ok := l.Bars(name)
 		m, in := l.Mean(name)

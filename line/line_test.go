@@ -73,6 +73,7 @@ func TestWrong(t *testing.T) {
 		{"view\n", api.ErrByte, 4},
 		{"\x7fview\x1f", api.ErrByte, 0},
 		{"poll é", api.ErrByte, 5},
+		{"poll ~", api.ErrNum, 5},
 		{"no\x00", api.ErrByte, 2},
 		{strings.Repeat("x", 200), api.ErrWord, 0},
 		{strings.Repeat("x", 201), api.ErrLong, 200},
@@ -130,6 +131,9 @@ func TestPrint(t *testing.T) {
 
 // P15.1: Verb, Digits
 func TestWords(t *testing.T) {
+	if line.MaxNum != 9999999 {
+		t.Error(line.MaxNum)
+	}
 	for kind, want := range map[int]string{-1: "?", 0: "?", 1: "submit", 2: "cancel", 3: "poll", 4: "view", 5: "?", math.MaxInt: "?"} {
 		if line.Verb(kind) != want {
 			t.Error(kind, line.Verb(kind))

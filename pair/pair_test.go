@@ -162,12 +162,27 @@ func TestSweep(t *testing.T) {
 		p.Step(w)
 	}
 	w.C.Go(1)
-	finish(w, p)
+	if at := finish(w, p, make([]int, 6)...); !slices.Equal(at, []int{6, 7, 10, 11, 12, 13}) {
+		t.Error("steps", at)
+	}
 	if slot(w, 0, 1, 2) != (api.Record{Kind: record.Filled, Price: 2, Tick: 5}) || slot(w, 4, 1, 2) != (api.Record{Kind: record.Filled, Price: 1, Tick: 4}) || slot(w, 0, 1, 1).Cell != 4 {
 		t.Error("ends", slot(w, 0, 1, 2), slot(w, 4, 1, 2))
 	}
 	if e := w.Log[len(w.Log)-1]; e != (trace.Event{Kind: trace.Over, Cell: 0, Gen: 1, End: api.Filled, Tick: 5}) {
 		t.Error(e)
+	}
+}
+
+// P10.3: who is taken for a part of it isn't over: its journal is told no end.
+func TestPart(t *testing.T) {
+	w := world(t)
+	place(t, w, 0, api.Rest, order(api.Buy, 10, 1), 3)
+	place(t, w, 2, api.Rest, order(api.Sell, 8, 1), 5)
+	if at := finish(w, pair.Begin(pair.Aim{Way: pair.Sweep, X: 0, Y: 2})); !slices.Equal(at, []int{0, 1, 2, 3, 4, 5, 6, 7, 10, 11, 13}) {
+		t.Error("steps", at)
+	}
+	if slot(w, 0, 1, 2) != (api.Record{Kind: record.Filled, Price: 1}) || state(w, 2) != (api.State{Kind: api.Rest, Gen: 1, Left: 2, Fills: 1}) {
+		t.Error(slot(w, 0, 1, 2), state(w, 2))
 	}
 }
 

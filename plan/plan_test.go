@@ -50,8 +50,8 @@ func TestRows(t *testing.T) {
 
 // P21.2
 func TestMix(t *testing.T) {
-	a, b := of(0, 0, 0), of(1)
-	if l := plan.Mix(a, nil, b, of(2, 2)); !slices.Equal(l, of(0, 1, 2, 0, 2, 0)) || !slices.Equal(a, of(0, 0, 0)) {
+	a, b := of(0, 0, 0, 0, 0), of(1)
+	if l := plan.Mix(a, nil, b, of(2, 2)); !slices.Equal(l, of(0, 1, 2, 0, 2, 0, 0, 0)) || !slices.Equal(a, of(0, 0, 0, 0, 0)) {
 		t.Error(l)
 	}
 	if len(plan.Mix()) != 0 || len(plan.Mix(nil, nil)) != 0 {
@@ -69,14 +69,14 @@ func TestMix(t *testing.T) {
 // P21.3: Picked, Gap, Fair
 func TestFair(t *testing.T) {
 	r := made(t)
-	l := slices.Concat(of(0, 1, 2, 3, 9, -1), []pool.Event{tick, {Kind: pool.Line, Who: 1}}, of(0, 1, 2, 3, 0))
+	l := slices.Concat(of(0, 1, 2, 3, 4, -1), []pool.Event{tick, {Kind: pool.Line, Who: 1}}, of(0, 1, 2, 3, 0))
 	if n := plan.Picked(r, l...); !slices.Equal(n, []int{3, 2, 2, 2}) {
 		t.Error(n)
 	}
 	if n := plan.Picked(r); !slices.Equal(n, []int{0, 0, 0, 0}) {
 		t.Error(n)
 	}
-	for agent, want := range map[int]int{0: 7, 1: 7, 2: 7, 3: 7, 9: 8, -1: 7, 5: 13} {
+	for agent, want := range map[int]int{0: 7, 1: 7, 2: 7, 3: 7, 4: 8, -1: 7, 5: 13} {
 		if n := plan.Gap(agent, l...); n != want {
 			t.Error(agent, n)
 		}

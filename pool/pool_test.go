@@ -115,6 +115,9 @@ func TestNothing(t *testing.T) {
 			t.Error(kind)
 		}
 	}
+	if pool.Line != 1 || pool.Tick != 2 || pool.Pick != 3 || pool.Draw != 4 {
+		t.Error("kinds")
+	}
 	n := len(p.Uses())
 	if n != 26 || slices.ContainsFunc(p.Uses(), func(n int) bool { return n != -1 }) || len(p.Lines()) != 0 {
 		t.Error(n, p.Uses())
@@ -124,9 +127,11 @@ func TestNothing(t *testing.T) {
 // P13.1: a session does one thing after the other; numbers are taken as they were drawn.
 func TestQueue(t *testing.T) {
 	p := made(t, great)
+	if !p.Do(pool.Event{Kind: pool.Draw, Who: 0, N: -3}) { // cell 3
+		t.Error("a number that is drawn")
+	}
 	p.Run(
-		pool.Event{Kind: pool.Draw, Who: 0, N: -3}, // cell 3
-		pool.Event{Kind: pool.Draw, Who: 1, N: 6},  // cell 0
+		pool.Event{Kind: pool.Draw, Who: 1, N: 6}, // cell 0
 		pool.Event{Kind: pool.Draw, Who: 0, N: 7},
 		pool.Event{Kind: pool.Draw, Who: 0, N: 7},
 		line(0, submit(1, 0, api.Buy, 10, 5)),

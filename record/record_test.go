@@ -13,7 +13,7 @@ import (
 // P8.1: Word, Of
 func TestWord(t *testing.T) {
 	most := api.Record{Kind: 5, Qty: 65535, Price: 65535, Tick: 1<<20 - 1, Cell: 31, Gen: 15}
-	for _, r := range []api.Record{{}, {Kind: record.Fill, Qty: 9999, Price: 9999, Tick: api.MaxTick, Cell: 23, Gen: 15}, most} {
+	for _, r := range []api.Record{{}, {Kind: record.Fill, Qty: 9998, Price: 9997, Tick: api.MaxTick, Cell: 23, Gen: 14}, most} {
 		w, err := record.Word(r)
 		if err != nil || record.Of(w) != r {
 			t.Error(r, w, err)

@@ -355,6 +355,9 @@ func TestCancel(t *testing.T) {
 	if n != 6 || !slices.Equal(touched, []int{4}) || !seat.Same(r, seat.Reply{Kind: seat.Cancel, Tick: 8, ID: 4}) {
 		t.Error(r, touched)
 	}
+	if e := w.Log[len(w.Log)-1]; e != (trace.Event{Kind: trace.Cancel, Cell: 0, Gen: 1, Tick: 6}) {
+		t.Error(e)
+	}
 	if end := record.Of(w.M.Words()[w.R.SlotAt(0, 1, 2)]); end != (api.Record{Kind: record.Cancelled, Qty: 5, Tick: 6}) || state(w, 0).Kind != api.Cancelled {
 		t.Error(end)
 	}

@@ -91,6 +91,11 @@ func TestMost(t *testing.T) {
 	if n := settle.Most(r, a, seat.Ask{Kind: seat.View}, seat.Ask{}); n != brooms+seat.Steps(r, a)+4+1 {
 		t.Error(n)
 	}
+	c := great
+	c.Bands = 3
+	if n := settle.Most(made(t, c).R); n != 2*3*(4*6+14*36) {
+		t.Error(n)
+	}
 }
 
 // P14.2

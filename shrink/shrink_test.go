@@ -73,6 +73,19 @@ func TestScript(t *testing.T) {
 		}
 		minimal(t, got, l, holds)
 	}
+	row := []pool.Event{{N: 2}, {N: 1}, {N: 3}}
+	needs := func(l []pool.Event) bool { // 3, and 1 only with 2
+		has := func(n int) bool { return slices.Contains(l, pool.Event{N: n}) }
+		return has(3) && (has(2) || !has(1))
+	}
+	if got, ok := shrink.Script(row, needs); !ok || !slices.Equal(got, row[2:]) {
+		t.Error("what couldn't go at first", got)
+	}
+	if got, ok := shrink.Script(row, func(l []pool.Event) bool { return len(l) == 3 }); !ok || len(got) != 3 {
+		t.Error(got)
+	} else if got[0].N = 9; row[0].N != 2 {
+		t.Error("what is handed out is what was handed in")
+	}
 	got, _ := shrink.Script(l, shrink.Fills(small, 1))
 	lines := 0
 	for _, e := range got {
@@ -109,6 +122,8 @@ func TestNumbers(t *testing.T) {
 		holds   shrink.Holds
 	}{
 		{n(9, 70), n(0, 0), func(l []pool.Event) bool { return true }},
+		{n(1, 0, 1), n(0, 0, 0), func(l []pool.Event) bool { return true }},
+		{n(10), n(2), func(l []pool.Event) bool { return l[0].N == 10 || l[0].N == 5 || l[0].N == 2 }},
 		{n(9, 70), n(0, 70), func(l []pool.Event) bool { return l[0].N+l[1].N >= 70 }},
 		{n(9, 70), n(5, 33), func(l []pool.Event) bool { return l[0].N >= 5 && l[1].N >= 33 }},
 		{n(100, -3, 0), n(7, -3, 0), func(l []pool.Event) bool { return l[0].N >= 7 }},

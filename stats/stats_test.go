@@ -87,6 +87,16 @@ func TestOrders(t *testing.T) {
 	}
 }
 
+// P28.1: a first fill at once is the first one.
+func TestAtOnce(t *testing.T) {
+	l := stats.Orders(made(t), submit(0, 1, api.Buy, 9, 0), submit(2, 1, api.Sell, 4, 0), submit(4, 1, api.Sell, 1, 0),
+		trace.Event{Kind: trace.Fill, Cell: 2, Gen: 1, Other: 0, With: 1, Qty: 4, Price: 10},
+		trace.Event{Kind: trace.Fill, Cell: 4, Gen: 1, Other: 0, With: 1, Qty: 1, Price: 10, Tick: 3})
+	if len(l) != 3 || l[0].First != 0 || l[2].First != 3 || l[0].End != api.Retired || l[0].Ended != 3 {
+		t.Error(l)
+	}
+}
+
 // P28.1: Wait, Life; P28.3: Idle
 func TestOrder(t *testing.T) {
 	tests := []struct {

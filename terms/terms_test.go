@@ -23,7 +23,7 @@ func made(t *testing.T) rules.Rules {
 
 // P7.1: Word, Of
 func TestWord(t *testing.T) {
-	for _, x := range []api.Terms{{}, {Name: 2, Side: 1, Price: 9999, Least: 9999, Until: api.MaxTick}, {Name: 15, Side: 1, Price: 65535, Least: 65535, Until: 1<<24 - 1}} {
+	for _, x := range []api.Terms{{}, {Name: 2, Side: 1, Price: 9998, Least: 9997, Until: api.MaxTick}, {Name: 15, Side: 1, Price: 65535, Least: 65535, Until: 1<<24 - 1}} {
 		w, err := terms.Word(x)
 		if err != nil || terms.Of(w) != x {
 			t.Error(x, w, err)
@@ -122,6 +122,7 @@ func TestMatch(t *testing.T) {
 		{buy, api.Terms{Name: 1, Side: 2, Price: 7, Least: 1}, 5, 5, terms.Fill{}},
 		{api.Terms{Name: 1, Side: -1, Price: 10}, sell, 5, 5, terms.Fill{}},
 		{api.Terms{Price: 5}, api.Terms{Side: 1, Price: 5}, 0, 0, terms.Fill{}},
+		{api.Terms{Price: 5, Least: 1}, api.Terms{Side: 1, Price: 4, Least: 1}, 1, 9, terms.Fill{Qty: 1, Price: 4}},
 	}
 	for i, x := range tests {
 		if f := terms.Match(x.a, x.b, x.left, x.other); f != x.want {

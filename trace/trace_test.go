@@ -67,6 +67,7 @@ func TestTable(t *testing.T) {
 		{"submit", append(two(), of(trace.Cancel, 0), submit(0, 2, buy(1), 1), trace.Event{Kind: trace.Cancel, Cell: 0, Gen: 2}), submit(0, 9, late.Terms, 0), api.ErrFull},
 		{"submit", nil, late, api.ErrLate},
 		{"submit", nil, submit(0, 1, buy(0), 1), api.ErrPrice},
+		{"submit", nil, submit(0, 1, api.Terms{Price: 1, Least: 1, Until: 1}, 1), nil},
 		{"submit", nil, at(submit(0, 1, buy(1), 1), 99), nil},
 		{"fill", two(), fill(0, 1, 3, 9), nil},
 		{"fill", two(), fill(1, 0, 3, 9), nil},
@@ -170,6 +171,27 @@ func TestOrders(t *testing.T) {
 	}
 	if err := m.Do(end(1, api.Filled)); err != nil {
 		t.Error(err)
+	}
+	if o, _ := m.Order(1, 1); o.End != api.Filled {
+		t.Error("let go", o)
+	}
+}
+
+// P9.1: by which state an order is over.
+func TestEnds(t *testing.T) {
+	for want, l := range map[int][]trace.Event{
+		api.Cancelled: {of(trace.Cancel, 0)},
+		api.Expired:   {at(of(trace.Expire, 0), 50)},
+		0:             {of(trace.Ask, 0), of(trace.Rest, 0)},
+	} {
+		m, err := trace.Play(made(t, 2), append(two(), l...)...)
+		if o, _ := m.Order(0, 1); err != nil || o.End != want || o.Left != 5 {
+			t.Error(want, o, err)
+		}
+	}
+	m, err := trace.Play(made(t, 2), append(two(), of(trace.Ask, 0), end(0, api.Cancelled))...)
+	if o, _ := m.Order(0, 1); err != nil || o.End != api.Cancelled || !o.Ask {
+		t.Error(o, err)
 	}
 }
 
