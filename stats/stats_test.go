@@ -106,11 +106,17 @@ func TestOrder(t *testing.T) {
 		idle       bool
 	}{
 		{stats.Order{Came: 3, First: 9, Ended: 11, End: api.Filled, Done: 1}, 6, 8, true, true, false},
-		{stats.Order{Came: 3, First: -1, Ended: -1}, 0, 0, false, false, false},
-		{stats.Order{Came: 3, First: 0, Ended: 9}, -3, 0, true, false, false},
-		{stats.Order{Came: 3, First: -5, Ended: 9, End: api.Expired}, 0, 6, false, true, true},
+		{stats.Order{}, 0, 0, true, false, false},
+		{stats.Order{First: -1}, -1, 0, false, false, false},
+		{stats.Order{Came: 3, First: -1, Ended: -1}, -4, -4, false, false, false},
+		{stats.Order{Came: 5, First: -1, Ended: -1}, -6, -6, false, false, false},
+		{stats.Order{Came: 3, First: 9, Ended: -1}, 6, -4, true, false, false},
+		{stats.Order{Came: 3, First: 0, Ended: 9}, -3, 6, true, false, false},
+		{stats.Order{Came: 3, First: -5, Ended: 9, End: api.Expired}, -8, 6, false, true, true},
 		{stats.Order{Came: 3, First: 4, Ended: 9, End: api.Expired, Done: 1}, 1, 6, true, true, false},
-		{stats.Order{Came: 3, First: -1, Ended: 9, End: api.Cancelled}, 0, 6, false, true, false},
+		{stats.Order{Came: 3, First: -1, Ended: 9, End: api.Cancelled}, -4, 6, false, true, false},
+		{stats.Order{Came: 3, First: -1, Ended: 9, End: -1}, -4, 6, false, true, false},
+		{stats.Order{Came: -1 << 40, First: 1 << 40, Ended: -1 << 40}, 1 << 41, 0, true, false, false},
 	}
 	for i, x := range tests {
 		wait, had := x.o.Wait()
@@ -118,6 +124,22 @@ func TestOrder(t *testing.T) {
 		if wait != x.wait || had != x.had || life != x.life || over != x.over || stats.Idle(x.o) != x.idle {
 			t.Error(i, wait, had, life, over)
 		}
+	}
+}
+
+// P28.2: Waits, Lives; P28.3: Longest: an order that has no first fill, or no end, isn't among them, whatever its number is.
+func TestWithout(t *testing.T) {
+	wait := stats.Order{Came: 5, First: 7, Ended: 99}
+	life := stats.Order{Came: 5, First: -1, Ended: 8, End: api.Expired}
+	none := stats.Order{Came: 5, First: -1, Ended: -1}
+	if s := stats.Waits(none, wait, life, none); s != stats.Of(2) {
+		t.Error(s)
+	}
+	if s := stats.Lives(none, wait, life, none); s != stats.Of(3) {
+		t.Error(s)
+	}
+	if l := stats.Longest(9, none, wait, life, none); !slices.Equal(l, []stats.Order{life}) {
+		t.Error(l)
 	}
 }
 
